@@ -1,0 +1,1 @@
+"""Namehouses: names given out by several houses."""
