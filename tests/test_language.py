@@ -144,3 +144,31 @@ class TestLanguage(unittest.TestCase):
             if isinstance(node, ast.Attribute) and isinstance(node.ctx, ast.Store):
                 values.add(node.attr)
         self.assertEqual(methods & values, set())
+
+    def test_no_local_is_called_like_an_import_or_a_class(self):
+        for path, text in sources():
+            tree = ast.parse(text)
+            taken = {alias.name for part in tree.body if isinstance(part, ast.ImportFrom) for alias in part.names}
+            taken |= {part.name for part in tree.body if isinstance(part, ast.ClassDef)}
+            for part in tree.body:
+                for node in ast.walk(part):
+                    if isinstance(node, (ast.Name, ast.arg)):
+                        self.assertEqual(set(bound_names(node)) & taken, set(), f"{path.name}:{node.lineno}")
+
+    def test_no_two_files_draw_from_one_another(self):
+        drawn = {}
+        for path, text in sources():
+            imports = [part for part in ast.parse(text).body if isinstance(part, ast.ImportFrom)]
+            drawn[path.stem] = {part.module.partition(".")[2] for part in imports}
+        while drawn:
+            free = [stem for stem in drawn if not drawn[stem] & set(drawn)]
+            self.assertNotEqual(free, [], drawn)
+            for stem in free:
+                drawn.pop(stem)
+
+    def test_what_is_taken(self):
+        for place, node in walked():
+            if isinstance(node, ast.ExceptHandler):
+                self.assertIsNotNone(node.type, place)
+                names = {part.id for part in ast.walk(node.type) if isinstance(part, ast.Name)}
+                self.assertEqual(names & {"Exception", "TypeError"}, set(), place)
