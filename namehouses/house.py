@@ -6,7 +6,7 @@ a batch of places, each behind the other, also where it goes on from one moment 
 
 from namehouses.errors import Empty, Fallen, NoLease, NoNote, NoTime, TooMany, Wait
 from namehouses.leases import FIRST, HOUSE, UNTIL, check_lease, is_lease, used_of
-from namehouses.shapes import is_below, is_size, is_whole, name_of, parts_of
+from namehouses.shapes import is_below, is_from_nought, is_size, is_whole, name_of, parts_of
 
 
 def is_note(shape, thing):
@@ -63,7 +63,7 @@ def place_above(shape, house, name):
 
 class House:
     def __init__(self, shape, ahead, stride, keeper, note=None):
-        if not (is_whole(ahead) and ahead >= 0 and is_whole(stride) and stride >= 0):
+        if not (is_from_nought(ahead) and is_from_nought(stride)):
             raise NoTime("ahead and stride are whole numbers from 0 on")
         if note is not None and not is_note(shape, note):
             raise NoNote("no note of the shape")

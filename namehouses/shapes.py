@@ -16,6 +16,10 @@ def is_size(thing):
     return is_whole(thing) and thing >= 1
 
 
+def is_from_nought(thing):
+    return is_whole(thing) and thing >= 0
+
+
 def is_below(thing, bound):
     return is_whole(thing) and 0 <= thing < bound
 

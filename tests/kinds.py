@@ -1,4 +1,4 @@
-"""Things that are no whole numbers, and things that are no texts, for the tests of refusals."""
+"""Things that are no whole numbers, no texts, no holders, for the tests of refusals."""
 
 OTHERS = [
     None, True, False, [], [0], [1, 2], (), (0,), (0, 1, 2), {}, {0: 1}, {"a": []},
@@ -14,3 +14,8 @@ NUMBERS = [0, 1, -1, 7, 10 ** 39, -10 ** 39, VAST, -VAST]
 NO_TEXTS = OTHERS + NUMBERS
 
 FORTY = 10 ** 40 - 1
+
+NO_HOLDERS = NO_TEXTS + [
+    "", "abcdefghi", "a" * 9, "a" * 500, "Anna", "annA", "anna1", "an na", " anna", "anna ", "anna\n", "\nanna", "\n",
+    " ", "an-na", "an.na", "~", "`", "{", "@", "[", "0", "any?", ["anna"], ("anna",), {"anna": 1}, ["a"], b"anna",
+]

@@ -2,17 +2,13 @@ import copy
 import random
 import unittest
 
-from kinds import FORTY, NO_NUMBERS, NO_TEXTS, VAST
+from kinds import FORTY, NO_HOLDERS, NO_NUMBERS, VAST
 from namehouses.common import Common, is_holder
 from namehouses.errors import Ended, NoHolder, NoLease, NoName, NoTime
 from namehouses.shapes import Shape, name_of
 from outcomes import outcome
 from slow_common import SlowCommon
 
-NO_HOLDERS = NO_TEXTS + [
-    "", "abcdefghi", "a" * 9, "a" * 500, "Anna", "annA", "anna1", "an na", " anna", "anna ", "anna\n", "\nanna", "\n",
-    " ", "an-na", "an.na", "~", "`", "{", "@", "[", "0", "any?", ["anna"], ("anna",), {"anna": 1}, ["a"], b"anna",
-]
 NO_HOUSES = [thing for thing in NO_NUMBERS if thing is not None] + [-1, 4, 5, -FORTY, FORTY, VAST, -VAST]
 NO_MOMENTS = NO_NUMBERS
 NO_SPANS = NO_NUMBERS + [0, -1, -FORTY, -VAST]

@@ -166,6 +166,25 @@ class TestLanguage(unittest.TestCase):
             for stem in free:
                 drawn.pop(stem)
 
+    def test_lists_and_dicts_of_a_top_are_only_read(self):
+        trees = [(path, ast.parse(text)) for path, text in sources()]
+        kept = {
+            part.targets[0].id for path, tree in trees for part in tree.body
+            if isinstance(part, ast.Assign) and isinstance(part.value, (ast.List, ast.Dict))}
+        for path, tree in trees:
+            # Read are xs[k], k in xs and xs.get(k): so the name stands straight within one of these.
+            read = set()
+            for node in ast.walk(tree):
+                if isinstance(node, ast.Subscript) and isinstance(node.ctx, ast.Load):
+                    read.add(node.value)
+                if isinstance(node, ast.Compare):
+                    read.update(node.comparators)
+                if isinstance(node, ast.Attribute) and node.attr == "get":
+                    read.add(node.value)
+            for node in ast.walk(tree):
+                if isinstance(node, ast.Name) and node.id in kept and isinstance(node.ctx, ast.Load):
+                    self.assertIn(node, read, f"{path.name}:{node.lineno}")
+
     def test_what_is_taken(self):
         for place, node in walked():
             if isinstance(node, ast.ExceptHandler):
